@@ -10,35 +10,10 @@ import (
 	"testing"
 
 	"traveldoc/api"
+	"traveldoc/samples"
 )
 
 // Help for the tests of this package. The cipher of the standard library is what the package is compared with.
-
-func unhex(t *testing.T, text string) []byte {
-	t.Helper()
-	b, err := hex.DecodeString(text)
-	if err != nil {
-		t.Fatal(err)
-	}
-	return b
-}
-
-// sample returns n bytes that differ from their neighbours and from zero at most places.
-func sample(n int) []byte {
-	b := make([]byte, n)
-	for i := range b {
-		b[i] = byte(i*37 + 11)
-	}
-	return b
-}
-
-// scribble overwrites a slice up to its capacity.
-func scribble(b []byte) {
-	b = b[:cap(b)]
-	for i := range b {
-		b[i] ^= 0xff
-	}
-}
 
 // library returns the cipher of the standard library.
 func library(t *testing.T, key []byte) cipher.Block {
@@ -126,7 +101,7 @@ const published = "637c777bf26b6fc53001672bfed7ab76" + "ca82c97dfa5947f0add4a2af
 // P5.1
 
 func TestSubstitute(t *testing.T) {
-	want := unhex(t, published)
+	want := samples.Unhex(published)
 	if len(want) != 256 {
 		t.Fatal(len(want))
 	}
@@ -173,11 +148,11 @@ func TestExamples(t *testing.T) {
 	if got := Substitute(0x53); got != 0xed {
 		t.Error(got)
 	}
-	key, block := unhex(t, "000102030405060708090a0b0c0d0e0f"), unhex(t, "00112233445566778899aabbccddeeff")
+	key, block := samples.Unhex("000102030405060708090a0b0c0d0e0f"), samples.Unhex("00112233445566778899aabbccddeeff")
 	if got, e := Encrypt(key, block); hex.EncodeToString(got) != "69c4e0d86a7b0430d8cdb78070b4c55a" || e != api.OK {
 		t.Errorf("%x, %d", got, e)
 	}
-	keys, e := Expand(unhex(t, "2b7e151628aed2a6abf7158809cf4f3c"))
+	keys, e := Expand(samples.Unhex("2b7e151628aed2a6abf7158809cf4f3c"))
 	if len(keys) != 11 || hex.EncodeToString(keys[10]) != "d014f9a8c9ee2589e13f0cc8b6630ca6" || e != api.OK {
 		t.Errorf("%x, %d", keys, e)
 	}
@@ -219,11 +194,11 @@ func same(a, b [][]byte) bool {
 func TestArgumentsAreNotModified(t *testing.T) {
 	for name, call := range calls() {
 		// The bytes behind the arguments belong to somebody else, though their capacity covers them.
-		keys, blocks := sample(200), sample(300)[100:]
+		keys, blocks := samples.Bytes(200), samples.Bytes(300)[100:]
 		wantKeys, wantBlocks := bytes.Clone(keys), bytes.Clone(blocks)
 		for _, sizes := range [][2]int{{16, 16}, {0, 16}, {16, 0}, {15, 16}, {16, 17}, {32, 32}} {
 			for _, piece := range call(keys[:sizes[0]], blocks[:sizes[1]]) {
-				scribble(piece)
+				samples.Scribble(piece)
 			}
 			if !bytes.Equal(keys, wantKeys) || !bytes.Equal(blocks, wantBlocks) {
 				t.Errorf("an argument of %s of %d and %d bytes was modified", name, sizes[0], sizes[1])
@@ -234,11 +209,11 @@ func TestArgumentsAreNotModified(t *testing.T) {
 
 func TestResultsDoNotChangeWithArguments(t *testing.T) {
 	for name, call := range calls() {
-		keys, blocks := sample(200), sample(300)[100:]
+		keys, blocks := samples.Bytes(200), samples.Bytes(300)[100:]
 		got := call(keys[:16], blocks[:16])
 		want := copied(got)
-		scribble(keys)
-		scribble(blocks)
+		samples.Scribble(keys)
+		samples.Scribble(blocks)
 		if !same(got, want) {
 			t.Errorf("the result of %s changes with an argument", name)
 		}
@@ -247,11 +222,11 @@ func TestResultsDoNotChangeWithArguments(t *testing.T) {
 
 func TestResultsAreNewEachTime(t *testing.T) {
 	for name, call := range calls() {
-		key, block := sample(16), sample(16)
+		key, block := samples.Bytes(16), samples.Bytes(16)
 		first, second := call(key, block), call(key, block)
 		want := copied(first)
 		for i := range first {
-			scribble(first[i])
+			samples.Scribble(first[i])
 		}
 		if !same(second, want) {
 			t.Errorf("two results of %s share memory", name)
@@ -264,9 +239,9 @@ func TestResultsAreNewEachTime(t *testing.T) {
 
 func TestKeysShareNoMemory(t *testing.T) {
 	for changed := range 11 {
-		keys, _ := Expand(sample(16))
+		keys, _ := Expand(samples.Bytes(16))
 		want := copied(keys)
-		scribble(keys[changed])
+		samples.Scribble(keys[changed])
 		// What is appended to a key must not run into the next one.
 		_ = append(keys[changed], 1, 2, 3)
 		for i := range keys {
@@ -290,10 +265,10 @@ func TestKeyAndBlockMayBeTheSameSlice(t *testing.T) {
 
 func TestResultsDependOnArgumentsOnly(t *testing.T) {
 	for name, call := range calls() {
-		key, block := sample(16), sample(32)[16:]
+		key, block := samples.Bytes(16), samples.Bytes(32)[16:]
 		want := call(key, block)
 		for size := range 40 {
-			call(sample(size), sample(40-size))
+			call(samples.Bytes(size), samples.Bytes(40-size))
 			Substitute(size)
 		}
 		if got := call(key, block); !same(got, want) {

@@ -8,6 +8,7 @@ import (
 	"testing"
 
 	"traveldoc/api"
+	"traveldoc/samples"
 )
 
 // P5.3
@@ -27,7 +28,7 @@ func TestPublishedBlocks(t *testing.T) {
 		{zero, "f34481ec3cc627bacd5dc3fb08f273e6", "0336763e966d92595a567cc9ce537f5e"},
 		{"80" + zero[2:], zero, "0edd33d3c621e546455bd8ba1418bec8"},
 	} {
-		key, block, want := unhex(t, x.key), unhex(t, x.block), unhex(t, x.want)
+		key, block, want := samples.Unhex(x.key), samples.Unhex(x.block), samples.Unhex(x.want)
 		if got, e := Encrypt(key, block); !bytes.Equal(got, want) || e != api.OK {
 			t.Errorf("Encrypt(%s, %s) = %x, %d, want %s", x.key, x.block, got, e, x.want)
 		}
@@ -40,7 +41,7 @@ func TestPublishedBlocks(t *testing.T) {
 // stepByStep is the document's definition of Encrypt, with a square of rows and columns and with products of the field.
 func stepByStep(t *testing.T, key, block []byte) []byte {
 	t.Helper()
-	keys, substitutes := expanded(t, key), unhex(t, published)
+	keys, substitutes := expanded(t, key), samples.Unhex(published)
 	var square [4][4]int
 	each := func(f func(r, c, x int) int) {
 		before := square
@@ -78,7 +79,7 @@ func stepByStep(t *testing.T, key, block []byte) []byte {
 
 func TestEncryptStepByStep(t *testing.T) {
 	r := rand.New(rand.NewSource(5))
-	key, block := sample(16), sample(32)[16:]
+	key, block := samples.Bytes(16), samples.Bytes(32)[16:]
 	for range 300 {
 		if got, e := Encrypt(key, block); !bytes.Equal(got, stepByStep(t, key, block)) || e != api.OK {
 			t.Fatalf("Encrypt(%x, %x) = %x, %d, want %x", key, block, got, e, stepByStep(t, key, block))
@@ -91,8 +92,8 @@ func TestEncryptStepByStep(t *testing.T) {
 func TestBlocksOfEqualBytes(t *testing.T) {
 	for x := range 256 {
 		equal := bytes.Repeat([]byte{byte(x)}, 16)
-		checkBlock(t, sample(16), equal)
-		checkBlock(t, equal, sample(16))
+		checkBlock(t, samples.Bytes(16), equal)
+		checkBlock(t, equal, samples.Bytes(16))
 		checkBlock(t, equal, equal)
 	}
 }
@@ -103,10 +104,10 @@ func TestBlocksDependOnEachBit(t *testing.T) {
 		single[bit/8] = 0x80 >> (bit % 8)
 		checkBlock(t, single, make([]byte, 16))
 		checkBlock(t, make([]byte, 16), single)
-		changed := sample(16)
+		changed := samples.Bytes(16)
 		changed[bit/8] ^= 0x80 >> (bit % 8)
-		checkBlock(t, changed, sample(16))
-		checkBlock(t, sample(16), changed)
+		checkBlock(t, changed, samples.Bytes(16))
+		checkBlock(t, samples.Bytes(16), changed)
 	}
 }
 
@@ -122,7 +123,7 @@ func TestManyBlocks(t *testing.T) {
 
 // TestChains encrypts and decrypts each result with the result before it as the key.
 func TestChains(t *testing.T) {
-	key, block := sample(16), sample(32)[16:]
+	key, block := samples.Bytes(16), samples.Bytes(32)[16:]
 	for range 2000 {
 		checkBlock(t, key, block)
 		next, _ := Encrypt(key, block)
@@ -143,10 +144,10 @@ func TestBlocksRefuseOtherSizes(t *testing.T) {
 			if keySize == 16 && size == 16 {
 				want, length = api.OK, 16
 			}
-			if got, e := Encrypt(sample(keySize), sample(size)); e != want || len(got) != length {
+			if got, e := Encrypt(samples.Bytes(keySize), samples.Bytes(size)); e != want || len(got) != length {
 				t.Errorf("Encrypt of %d and %d bytes returns %x, %d, want %d", keySize, size, got, e, want)
 			}
-			if got, e := Decrypt(sample(keySize), sample(size)); e != want || len(got) != length {
+			if got, e := Decrypt(samples.Bytes(keySize), samples.Bytes(size)); e != want || len(got) != length {
 				t.Errorf("Decrypt of %d and %d bytes returns %x, %d, want %d", keySize, size, got, e, want)
 			}
 		}
@@ -154,7 +155,7 @@ func TestBlocksRefuseOtherSizes(t *testing.T) {
 }
 
 func TestBlocksRefuseNil(t *testing.T) {
-	for _, x := range [][2][]byte{{nil, nil}, {sample(16), nil}, {nil, sample(16)}} {
+	for _, x := range [][2][]byte{{nil, nil}, {samples.Bytes(16), nil}, {nil, samples.Bytes(16)}} {
 		if got, e := Encrypt(x[0], x[1]); e != api.ErrSize || len(got) != 0 {
 			t.Errorf("Encrypt(%x, %x) = %x, %d", x[0], x[1], got, e)
 		}
@@ -165,7 +166,7 @@ func TestBlocksRefuseNil(t *testing.T) {
 }
 
 func TestBlocksLookAtLengthsAndNotAtCapacities(t *testing.T) {
-	whole := sample(64)
+	whole := samples.Bytes(64)
 	for _, x := range [][2]int{{0, 16}, {16, 0}, {15, 16}, {16, 15}, {17, 16}, {16, 17}, {15, 17}} {
 		if got, e := Encrypt(whole[:x[0]], whole[:x[1]]); e != api.ErrSize || len(got) != 0 {
 			t.Errorf("Encrypt of %d and %d bytes returns %x, %d", x[0], x[1], got, e)
@@ -185,15 +186,15 @@ func TestEncryptIsOneToOne(t *testing.T) {
 	for place := range 16 {
 		seen := map[string]bool{}
 		for x := range 256 {
-			block := sample(16)
+			block := samples.Bytes(16)
 			block[place] = byte(x)
-			to, _ := Encrypt(sample(16), block)
+			to, _ := Encrypt(samples.Bytes(16), block)
 			seen[hex.EncodeToString(to)] = true
-			if back, e := Decrypt(sample(16), to); !bytes.Equal(back, block) || e != api.OK {
+			if back, e := Decrypt(samples.Bytes(16), to); !bytes.Equal(back, block) || e != api.OK {
 				t.Fatalf("Decrypt of Encrypt of %x is %x, %d", block, back, e)
 			}
-			from, _ := Decrypt(sample(16), block)
-			if back, e := Encrypt(sample(16), from); !bytes.Equal(back, block) || e != api.OK {
+			from, _ := Decrypt(samples.Bytes(16), block)
+			if back, e := Encrypt(samples.Bytes(16), from); !bytes.Equal(back, block) || e != api.OK {
 				t.Fatalf("Encrypt of Decrypt of %x is %x, %d", block, back, e)
 			}
 		}

@@ -9,6 +9,7 @@ import (
 	"testing"
 
 	"traveldoc/api"
+	"traveldoc/samples"
 )
 
 // constants are the round constants of 1 to 10.
@@ -19,7 +20,7 @@ func constants() []int {
 // expanded is the document's definition, word by word, as the bytes of all keys.
 func expanded(t *testing.T, key []byte) []byte {
 	t.Helper()
-	substitutes := unhex(t, published)
+	substitutes := samples.Unhex(published)
 	var words [44][4]byte
 	for i := range words {
 		if i < 4 {
@@ -82,7 +83,7 @@ func TestExpandOfPublishedKeys(t *testing.T) {
 			"549932d1f08557681093ed9cbe2c974e", "13111d7fe3944a17f307a78b4d2b30c5",
 		}},
 	} {
-		keys, e := Expand(unhex(t, x.key))
+		keys, e := Expand(samples.Unhex(x.key))
 		var got []string
 		for _, key := range keys {
 			got = append(got, hex.EncodeToString(key))
@@ -109,8 +110,8 @@ func TestExpandOfEqualWords(t *testing.T) {
 }
 
 func TestExpandBeginsWithTheKey(t *testing.T) {
-	keys, e := Expand(sample(16))
-	if len(keys) != 11 || !bytes.Equal(keys[0], sample(16)) || e != api.OK {
+	keys, e := Expand(samples.Bytes(16))
+	if len(keys) != 11 || !bytes.Equal(keys[0], samples.Bytes(16)) || e != api.OK {
 		t.Errorf("Expand returns %x, %d", keys, e)
 	}
 }
@@ -142,7 +143,7 @@ func TestExpandRefusesOtherSizes(t *testing.T) {
 		if size == 16 {
 			want, count = api.OK, 11
 		}
-		if keys, e := Expand(sample(size)); e != want || len(keys) != count {
+		if keys, e := Expand(samples.Bytes(size)); e != want || len(keys) != count {
 			t.Errorf("Expand of %d bytes returns %d keys, %d, want %d", size, len(keys), e, want)
 		}
 	}
@@ -152,7 +153,7 @@ func TestExpandRefusesOtherSizes(t *testing.T) {
 }
 
 func TestExpandLooksAtTheLengthAndNotAtTheCapacity(t *testing.T) {
-	whole := sample(64)
+	whole := samples.Bytes(64)
 	for _, size := range []int{0, 15, 17} {
 		if keys, e := Expand(whole[:size]); e != api.ErrSize || len(keys) != 0 {
 			t.Errorf("Expand of %d bytes returns %x, %d", size, keys, e)

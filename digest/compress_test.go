@@ -10,6 +10,7 @@ import (
 	"testing"
 
 	"traveldoc/api"
+	"traveldoc/samples"
 )
 
 // Help for the tests of Compress.
@@ -93,7 +94,7 @@ func TestCompressOfPublishedStates(t *testing.T) {
 func TestCompressOfOtherStates(t *testing.T) {
 	full := slices.Repeat([]uint32{0xffffffff}, 8)
 	for _, state := range [][]uint32{initial(), make([]uint32, 8), full, {1, 2, 3, 4, 5, 6, 7, 8}} {
-		for _, block := range [][]byte{make([]byte, 64), bytes.Repeat([]byte{0xff}, 64), sample(64), bytes.Repeat([]byte{0x80}, 64)} {
+		for _, block := range [][]byte{make([]byte, 64), bytes.Repeat([]byte{0xff}, 64), samples.Bytes(64), bytes.Repeat([]byte{0x80}, 64)} {
 			checkCompress(t, state, block)
 		}
 	}
@@ -135,7 +136,7 @@ func TestCompressRefusesOtherSizes(t *testing.T) {
 	if state, e := Compress(nil, nil); len(state) != 0 || e != api.ErrSize {
 		t.Errorf("Compress(nil, nil) returns %x, %d", state, e)
 	}
-	if state, e := Compress(initial(), sample(64)); len(state) != 8 || e != api.OK {
+	if state, e := Compress(initial(), samples.Bytes(64)); len(state) != 8 || e != api.OK {
 		t.Errorf("Compress of 8 words and 64 bytes returns %x, %d", state, e)
 	}
 }
@@ -154,14 +155,14 @@ func TestCompressLooksAtLengthsAndNotAtCapacities(t *testing.T) {
 
 func TestCompressLeavesItsArgumentsAlone(t *testing.T) {
 	states := append(initial(), 1, 2, 3, 4, 5, 6, 7, 8)
-	blocks := sample(128)
+	blocks := samples.Bytes(128)
 	got, e := Compress(states[:8], blocks[:64])
 	if e != api.OK {
 		t.Fatal(e)
 	}
 	want := slices.Clone(got)
 	check := func(when string) {
-		if !slices.Equal(states, append(initial(), 1, 2, 3, 4, 5, 6, 7, 8)) || !bytes.Equal(blocks, sample(128)) {
+		if !slices.Equal(states, append(initial(), 1, 2, 3, 4, 5, 6, 7, 8)) || !bytes.Equal(blocks, samples.Bytes(128)) {
 			t.Errorf("an argument of Compress was modified %s", when)
 		}
 	}

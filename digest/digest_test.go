@@ -9,18 +9,10 @@ import (
 	"testing"
 
 	"traveldoc/api"
+	"traveldoc/samples"
 )
 
 // Help for the tests of this package. The digest of the standard library is what the package is compared with.
-
-// sample returns n bytes that differ from their neighbours and from zero at most places.
-func sample(n int) []byte {
-	b := make([]byte, n)
-	for i := range b {
-		b[i] = byte(i*37 + 11)
-	}
-	return b
-}
 
 // edges returns the lengths around which the padding gets a further block, and some others.
 func edges() []int {
@@ -31,14 +23,6 @@ func edges() []int {
 func sum(b []byte) []byte {
 	x := sha256.Sum256(b)
 	return x[:]
-}
-
-// scribble overwrites a slice up to its capacity.
-func scribble(b []byte) {
-	b = b[:cap(b)]
-	for i := range b {
-		b[i] ^= 0xff
-	}
 }
 
 // P4.1
@@ -76,7 +60,7 @@ func TestPadSizes(t *testing.T) {
 		{0, 64}, {1, 64}, {54, 64}, {55, 64}, {56, 128}, {57, 128}, {63, 128}, {64, 128}, {65, 128},
 		{118, 128}, {119, 128}, {120, 192}, {127, 192}, {128, 192}, {183, 192}, {184, 256}, {4096, 4160},
 	} {
-		if got := len(Pad(sample(x.n))); got != x.want {
+		if got := len(Pad(samples.Bytes(x.n))); got != x.want {
 			t.Errorf("Pad of %d bytes has %d bytes, want %d", x.n, got, x.want)
 		}
 	}
@@ -89,7 +73,7 @@ func TestPadHasItsParts(t *testing.T) {
 		lengths = append(lengths, n)
 	}
 	for _, n := range lengths {
-		b := sample(n)
+		b := samples.Bytes(n)
 		out := Pad(b)
 		if len(out)%64 != 0 || len(out) < n+9 || len(out) >= n+9+64 {
 			t.Fatalf("Pad of %d bytes has %d bytes", n, len(out))
@@ -157,7 +141,7 @@ func TestSumOfPublishedDigests(t *testing.T) {
 
 func TestSumOfEachLength(t *testing.T) {
 	for _, n := range edges() {
-		if got := Sum(sample(n)); !bytes.Equal(got, sum(sample(n))) {
+		if got := Sum(samples.Bytes(n)); !bytes.Equal(got, sum(samples.Bytes(n))) {
 			t.Errorf("Sum of %d bytes is %x", n, got)
 		}
 	}
@@ -176,7 +160,7 @@ func TestSumOfEachLength(t *testing.T) {
 func TestSumDependsOnEachBit(t *testing.T) {
 	for _, n := range []int{1, 55, 56, 64, 65} {
 		for bit := range 8 * n {
-			b := sample(n)
+			b := samples.Bytes(n)
 			b[bit/8] ^= 0x80 >> (bit % 8)
 			if got := Sum(b); !bytes.Equal(got, sum(b)) {
 				t.Fatalf("Sum of %d bytes with another bit %d is %x", n, bit, got)
@@ -202,7 +186,7 @@ func TestSumBlockByBlock(t *testing.T) {
 		lengths = append(lengths, n)
 	}
 	for _, n := range lengths {
-		b := sample(n)
+		b := samples.Bytes(n)
 		padded := Pad(b)
 		for first := range n/64 + 1 {
 			state := stateBehind(t, initial(), b[:first*64])
@@ -223,7 +207,7 @@ func TestSumBlockByBlock(t *testing.T) {
 // TestSumOfARest pads the rest alone, whose number of bits must be that of all bytes.
 func TestSumOfARest(t *testing.T) {
 	for _, n := range edges() {
-		b := sample(n)
+		b := samples.Bytes(n)
 		whole := n / 64 * 64
 		state := initial()
 		for at := 0; at < whole; at += 64 {
@@ -249,10 +233,10 @@ func TestExamples(t *testing.T) {
 	if got := hex.EncodeToString(Sum([]byte("abc"))); got != "ba7816bf8f01cfea414140de5dae2223b00361a396177a9cb410ff61f20015ad" {
 		t.Error(got)
 	}
-	if got := len(Pad(sample(55))); got != 64 {
+	if got := len(Pad(samples.Bytes(55))); got != 64 {
 		t.Error(got)
 	}
-	if got := len(Pad(sample(56))); got != 128 {
+	if got := len(Pad(samples.Bytes(56))); got != 128 {
 		t.Error(got)
 	}
 }
@@ -261,11 +245,11 @@ func TestExamples(t *testing.T) {
 
 func TestArgumentsAreNotModified(t *testing.T) {
 	for _, n := range edges() {
-		whole := sample(n + 200)
+		whole := samples.Bytes(n + 200)
 		// The bytes behind the argument belong to somebody else, though its capacity covers them.
 		Pad(whole[:n])
 		Sum(whole[:n])
-		if !bytes.Equal(whole, sample(n+200)) {
+		if !bytes.Equal(whole, samples.Bytes(n+200)) {
 			t.Errorf("an argument of %d bytes was modified", n)
 		}
 	}
@@ -273,15 +257,15 @@ func TestArgumentsAreNotModified(t *testing.T) {
 
 func TestResultsShareNoMemory(t *testing.T) {
 	for _, n := range edges() {
-		whole := sample(n + 200)
-		scribble(Pad(whole[:n]))
-		scribble(Sum(whole[:n]))
-		if !bytes.Equal(whole, sample(n+200)) {
+		whole := samples.Bytes(n + 200)
+		samples.Scribble(Pad(whole[:n]))
+		samples.Scribble(Sum(whole[:n]))
+		if !bytes.Equal(whole, samples.Bytes(n+200)) {
 			t.Errorf("a result for %d bytes shares memory with the argument", n)
 		}
 		padded, digest := Pad(whole[:n]), Sum(whole[:n])
-		scribble(whole)
-		if !bytes.Equal(padded, Pad(sample(n))) || !bytes.Equal(digest, Sum(sample(n))) {
+		samples.Scribble(whole)
+		if !bytes.Equal(padded, Pad(samples.Bytes(n))) || !bytes.Equal(digest, Sum(samples.Bytes(n))) {
 			t.Errorf("a result for %d bytes changes with the argument", n)
 		}
 	}
@@ -289,10 +273,10 @@ func TestResultsShareNoMemory(t *testing.T) {
 
 func TestResultsAreNewEachTime(t *testing.T) {
 	for _, n := range edges() {
-		b := sample(n)
+		b := samples.Bytes(n)
 		want := Pad(b)
-		scribble(Pad(b))
-		scribble(Sum(b))
+		samples.Scribble(Pad(b))
+		samples.Scribble(Sum(b))
 		if !bytes.Equal(Pad(b), want) || !bytes.Equal(Sum(b), sum(b)) {
 			t.Errorf("a second call for %d bytes returns something else", n)
 		}

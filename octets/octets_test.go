@@ -9,16 +9,8 @@ import (
 	"testing"
 
 	"traveldoc/api"
+	"traveldoc/samples"
 )
-
-// sample returns n bytes that differ from their neighbours and from zero at most places.
-func sample(n int) []byte {
-	b := make([]byte, n)
-	for i := range b {
-		b[i] = byte(i*37 + 11)
-	}
-	return b
-}
 
 // allBytes returns each byte once, in ascending order.
 func allBytes() []byte {
@@ -74,7 +66,7 @@ func TestUnhex(t *testing.T) {
 
 func TestUnhexReadsWhatHexWrites(t *testing.T) {
 	for n := range 300 {
-		want := sample(n)
+		want := samples.Bytes(n)
 		for _, s := range []string{Hex(want), strings.ToUpper(Hex(want))} {
 			if b, e := Unhex(s); e != api.OK || !bytes.Equal(b, want) {
 				t.Fatalf("Unhex(%q) = %v, %d", s, b, e)
@@ -146,8 +138,8 @@ func TestNumberRefusesMoreThanSevenBytes(t *testing.T) {
 		make([]byte, 8),
 		{0, 0, 0, 0, 0, 0, 0, 1},
 		{255, 255, 255, 255, 255, 255, 255, 255},
-		sample(9),
-		sample(1000),
+		samples.Bytes(9),
+		samples.Bytes(1000),
 	} {
 		if n, e := Number(b); n != 0 || e != api.ErrSize {
 			t.Errorf("Number(%v) = %d, %d, want ErrSize", b, n, e)
@@ -231,7 +223,7 @@ func TestXor(t *testing.T) {
 
 func TestXorRefusesDifferentLengths(t *testing.T) {
 	for _, x := range []struct{ a, b []byte }{
-		{[]byte{1}, nil}, {nil, []byte{1}}, {[]byte{1, 2}, []byte{1}}, {sample(16), sample(17)},
+		{[]byte{1}, nil}, {nil, []byte{1}}, {[]byte{1, 2}, []byte{1}}, {samples.Bytes(16), samples.Bytes(17)},
 	} {
 		if b, e := Xor(x.a, x.b); e != api.ErrSize || b != nil {
 			t.Errorf("Xor(%v, %v) = %v, %d, want ErrSize", x.a, x.b, b, e)
@@ -261,9 +253,9 @@ func TestSame(t *testing.T) {
 		}
 	}
 	for i := range 64 {
-		a := sample(64)
+		a := samples.Bytes(64)
 		a[i] ^= 0x80
-		if Same(a, sample(64)) {
+		if Same(a, samples.Bytes(64)) {
 			t.Errorf("Same does not see the byte %d", i)
 		}
 	}
@@ -304,7 +296,7 @@ func TestSplit(t *testing.T) {
 func TestSplitKeepsAllBytes(t *testing.T) {
 	for n := range 40 {
 		for size := 1; size < 45; size++ {
-			b := sample(n)
+			b := samples.Bytes(n)
 			l, e := Split(b, size)
 			if e != api.OK || !bytes.Equal(bytes.Join(l, nil), b) {
 				t.Fatalf("Split(%v, %d) = %v, %d", b, size, l, e)
@@ -352,7 +344,7 @@ func TestNumberOfOctets(t *testing.T) {
 func TestOctetsOfNumber(t *testing.T) {
 	for size := range 8 {
 		for _, b := range [][]byte{
-			make([]byte, size), sample(size), bytes.Repeat([]byte{255}, size), bytes.Repeat([]byte{0, 200}, 4)[:size],
+			make([]byte, size), samples.Bytes(size), bytes.Repeat([]byte{255}, size), bytes.Repeat([]byte{0, 200}, 4)[:size],
 		} {
 			n, e := Number(b)
 			if e != api.OK || int64(n) != new(big.Int).SetBytes(b).Int64() {
@@ -367,7 +359,7 @@ func TestOctetsOfNumber(t *testing.T) {
 
 func TestXorTwice(t *testing.T) {
 	for n := range 100 {
-		a, b := sample(n), bytes.Repeat([]byte{0x5a}, n)
+		a, b := samples.Bytes(n), bytes.Repeat([]byte{0x5a}, n)
 		x, e := Xor(a, b)
 		if e != api.OK {
 			t.Fatal(e)
@@ -385,7 +377,7 @@ func TestXorTwice(t *testing.T) {
 
 func TestArgumentsAreNotModified(t *testing.T) {
 	for n := range 12 {
-		whole := sample(n + 8)
+		whole := samples.Bytes(n + 8)
 		other := bytes.Repeat([]byte{0xc3}, n)
 		// The bytes behind the argument belong to somebody else, though its capacity covers them.
 		b := whole[:n]
@@ -398,31 +390,31 @@ func TestArgumentsAreNotModified(t *testing.T) {
 		Same(b, b)
 		Split(b, 3)
 		Split(b, 100)
-		if !bytes.Equal(whole, sample(n+8)) || !bytes.Equal(other, bytes.Repeat([]byte{0xc3}, n)) {
+		if !bytes.Equal(whole, samples.Bytes(n+8)) || !bytes.Equal(other, bytes.Repeat([]byte{0xc3}, n)) {
 			t.Errorf("an argument of %d bytes was modified", n)
 		}
 	}
 }
 
 func TestResultsShareNoMemory(t *testing.T) {
-	a, b := sample(5), sample(5)
+	a, b := samples.Bytes(5), samples.Bytes(5)
 	x, _ := Xor(a, b)
-	scribble(x)
-	if !bytes.Equal(a, sample(5)) || !bytes.Equal(b, sample(5)) {
+	samples.Scribble(x)
+	if !bytes.Equal(a, samples.Bytes(5)) || !bytes.Equal(b, samples.Bytes(5)) {
 		t.Error("the result of Xor shares memory with an argument")
 	}
 	for _, size := range []int{1, 2, 5, 6} {
 		l, _ := Split(a, size)
 		for i := range l {
 			before, _ := Split(a, size)
-			scribble(l[i])
+			samples.Scribble(l[i])
 			for j := i + 1; j < len(l); j++ {
 				if !bytes.Equal(l[j], before[j]) {
 					t.Errorf("pieces %d and %d of the size %d share memory", i, j, size)
 				}
 			}
 		}
-		if !bytes.Equal(a, sample(5)) {
+		if !bytes.Equal(a, samples.Bytes(5)) {
 			t.Errorf("pieces of the size %d share memory with the argument", size)
 		}
 	}
@@ -435,17 +427,9 @@ func TestResultsAreNewEachTime(t *testing.T) {
 		func() []byte { b, _ := Xor([]byte{0, 0}, []byte{1, 2}); return b },
 		func() []byte { l, _ := Split([]byte{1, 2}, 2); return l[0] },
 	} {
-		scribble(call())
+		samples.Scribble(call())
 		if b := call(); !bytes.Equal(b, []byte{1, 2}) {
 			t.Errorf("a second call returns %v", b)
 		}
-	}
-}
-
-// scribble overwrites a slice up to its capacity.
-func scribble(b []byte) {
-	b = b[:cap(b)]
-	for i := range b {
-		b[i] ^= 0xff
 	}
 }

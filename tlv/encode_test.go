@@ -5,6 +5,7 @@ import (
 	"testing"
 
 	"traveldoc/api"
+	"traveldoc/samples"
 )
 
 // P2.2
@@ -29,7 +30,7 @@ func TestEncode(t *testing.T) {
 		{[]api.Node{{Tag: 4, Value: []byte{}, Kids: []api.Node{}}}, "04 00"},
 		{[]api.Node{{Tag: 0x30, Value: []byte{}, Kids: []api.Node{}}}, "30 00"},
 	} {
-		if b, e := Encode(x.l); e != api.OK || !bytes.Equal(b, raw(t, x.want)) {
+		if b, e := Encode(x.l); e != api.OK || !bytes.Equal(b, samples.Unhex(x.want)) {
 			t.Errorf("Encode(%v) = %x, %d, want %s", x.l, b, e, x.want)
 		}
 	}
@@ -56,8 +57,8 @@ func TestEncodeLengths(t *testing.T) {
 		{128, "04 81 80"}, {129, "04 81 81"}, {254, "04 81 fe"}, {255, "04 81 ff"},
 		{256, "04 82 01 00"}, {257, "04 82 01 01"}, {1000, "04 82 03 e8"}, {4092, "04 82 0f fc"},
 	} {
-		want := append(raw(t, x.head), sample(x.size)...)
-		if b, e := Encode([]api.Node{leaf(4, sample(x.size)...)}); e != api.OK || !bytes.Equal(b, want) {
+		want := append(samples.Unhex(x.head), samples.Bytes(x.size)...)
+		if b, e := Encode([]api.Node{leaf(4, samples.Bytes(x.size)...)}); e != api.OK || !bytes.Equal(b, want) {
 			t.Errorf("Encode of %d bytes = %x, %d", x.size, b, e)
 		}
 	}
@@ -69,8 +70,8 @@ func TestEncodeLengths(t *testing.T) {
 		{125, "30 7f 04 7d"}, {126, "30 81 80 04 7e"}, {127, "30 81 81 04 7f"}, {128, "30 81 83 04 81 80"},
 		{252, "30 81 ff 04 81 fc"}, {253, "30 82 01 00 04 81 fd"}, {256, "30 82 01 04 04 82 01 00"},
 	} {
-		want := append(raw(t, x.head), sample(x.size)...)
-		if b, e := Encode([]api.Node{branch(0x30, leaf(4, sample(x.size)...))}); e != api.OK || !bytes.Equal(b, want) {
+		want := append(samples.Unhex(x.head), samples.Bytes(x.size)...)
+		if b, e := Encode([]api.Node{branch(0x30, leaf(4, samples.Bytes(x.size)...))}); e != api.OK || !bytes.Equal(b, want) {
 			t.Errorf("Encode of %d bytes in a constructed object = %x, %d", x.size, b, e)
 		}
 	}
@@ -149,17 +150,17 @@ func TestEncodeCountsAllBytes(t *testing.T) {
 		l    []api.Node
 		want int // bytes; 0 for too many
 	}{
-		{[]api.Node{leaf(4, sample(4092)...)}, 4096},
-		{[]api.Node{leaf(4, sample(4093)...)}, 0},
-		{[]api.Node{leaf(0x5f1f, sample(4091)...)}, 4096},
-		{[]api.Node{leaf(0x5f1f, sample(4092)...)}, 0},
-		{[]api.Node{branch(0x30, leaf(4, sample(4088)...))}, 4096},
-		{[]api.Node{branch(0x30, leaf(4, sample(4089)...))}, 0},
-		{[]api.Node{leaf(4, sample(2044)...), leaf(4, sample(2044)...)}, 4096},
-		{[]api.Node{leaf(4, sample(2044)...), leaf(4, sample(2045)...)}, 0},
-		{[]api.Node{leaf(4, sample(4090)...), leaf(5)}, 4096},
-		{[]api.Node{leaf(4, sample(4091)...), leaf(5)}, 0},
-		{[]api.Node{leaf(4, sample(70000)...)}, 0},
+		{[]api.Node{leaf(4, samples.Bytes(4092)...)}, 4096},
+		{[]api.Node{leaf(4, samples.Bytes(4093)...)}, 0},
+		{[]api.Node{leaf(0x5f1f, samples.Bytes(4091)...)}, 4096},
+		{[]api.Node{leaf(0x5f1f, samples.Bytes(4092)...)}, 0},
+		{[]api.Node{branch(0x30, leaf(4, samples.Bytes(4088)...))}, 4096},
+		{[]api.Node{branch(0x30, leaf(4, samples.Bytes(4089)...))}, 0},
+		{[]api.Node{leaf(4, samples.Bytes(2044)...), leaf(4, samples.Bytes(2044)...)}, 4096},
+		{[]api.Node{leaf(4, samples.Bytes(2044)...), leaf(4, samples.Bytes(2045)...)}, 0},
+		{[]api.Node{leaf(4, samples.Bytes(4090)...), leaf(5)}, 4096},
+		{[]api.Node{leaf(4, samples.Bytes(4091)...), leaf(5)}, 0},
+		{[]api.Node{leaf(4, samples.Bytes(70000)...)}, 0},
 		{[]api.Node{leaf(4, make([]byte, 1<<24)...)}, 0},
 	} {
 		b, e := Encode(x.l)
@@ -175,7 +176,7 @@ func TestEncodeCountsAllBytes(t *testing.T) {
 func TestEncodeOrderOfErrors(t *testing.T) {
 	badTag, badForm := leaf(0), leaf(0x30, 1)
 	tooDeep := tower(9, leaf(4))
-	big := leaf(4, sample(5000)...)
+	big := leaf(4, samples.Bytes(5000)...)
 	for i, x := range []struct {
 		l    []api.Node
 		want api.Errno

@@ -6,6 +6,7 @@ import (
 	"testing"
 
 	"traveldoc/api"
+	"traveldoc/samples"
 )
 
 // read is an encoding, with the objects or the errors that are read from it: strictly, and otherwise.
@@ -17,7 +18,7 @@ type read struct {
 
 func (x read) test(t *testing.T) {
 	t.Helper()
-	b := raw(t, x.in)
+	b := samples.Unhex(x.in)
 	for _, strict := range []bool{true, false} {
 		e, want := x.loose, x.want
 		if strict {
@@ -99,8 +100,8 @@ func TestParseLengths(t *testing.T) {
 		{256, "82 01 00", true}, {256, "83 00 01 00", false}, {256, "84 00 00 01 00", false},
 		{4000, "82 0f a0", true}, {4000, "83 00 0f a0", false}, {4000, "84 00 00 0f a0", false},
 	} {
-		b := append(raw(t, "04"+x.form), sample(x.size)...)
-		want := []api.Node{leaf(4, sample(x.size)...)}
+		b := append(samples.Unhex("04"+x.form), samples.Bytes(x.size)...)
+		want := []api.Node{leaf(4, samples.Bytes(x.size)...)}
 		if l, e := Parse(b, false); e != api.OK || !same(l, want) {
 			t.Errorf("the length %s of %d bytes: %d", x.form, x.size, e)
 		}
@@ -175,10 +176,10 @@ func TestParseIndefiniteForm(t *testing.T) {
 		{"31 05 30 80 00 00 00", api.ErrTag},
 	} {
 		// Read strictly, 0x80 is an error at once; in "31 04 .." it stands in a Kid.
-		if l, e := Parse(raw(t, x.in), false); e != x.loose || e != api.OK && l != nil {
+		if l, e := Parse(samples.Unhex(x.in), false); e != x.loose || e != api.OK && l != nil {
 			t.Errorf("Parse(%s) = %v, %d, want %d", x.in, l, e, x.loose)
 		}
-		if l, e := Parse(raw(t, x.in), true); e != api.ErrLength || l != nil {
+		if l, e := Parse(samples.Unhex(x.in), true); e != api.ErrLength || l != nil {
 			t.Errorf("Parse(%s, strict) = %v, %d, want ErrLength", x.in, l, e)
 		}
 	}
@@ -256,7 +257,7 @@ func TestParseOfCutEncodings(t *testing.T) {
 		{"04 82 01 00" + strings.Repeat("00", 256), []int{0, 260}},
 		{"30 80 02 81 01 05 00 00 30 80 31 80 00 00 00 00 04 84 00 00 00 01 05", []int{0, 8, 16, 23}},
 	} {
-		b := raw(t, x.in)
+		b := samples.Unhex(x.in)
 		for n := range len(b) + 1 {
 			want := api.ErrTruncated
 			for _, whole := range x.whole {
@@ -327,22 +328,22 @@ func TestParseCountsAllObjects(t *testing.T) {
 		{"indefinite form, one Kid more", "30 80" + objects(256) + "00 00", api.ErrSize},
 		{"indefinite form, one more behind it", "30 80" + objects(255) + "00 00 04 00", api.ErrSize},
 	} {
-		if l, e := Parse(raw(t, x.in), false); e != x.want || e != api.OK && l != nil {
+		if l, e := Parse(samples.Unhex(x.in), false); e != x.want || e != api.OK && l != nil {
 			t.Errorf("%s: %d, want %d", x.name, e, x.want)
 		}
 	}
 }
 
 func TestParseCountsBytes(t *testing.T) {
-	whole := append([]byte{4, 0x82, 0x0f, 0xfc}, sample(4092)...)
+	whole := append([]byte{4, 0x82, 0x0f, 0xfc}, samples.Bytes(4092)...)
 	for _, strict := range []bool{true, false} {
-		if l, e := Parse(whole, strict); e != api.OK || !same(l, []api.Node{leaf(4, sample(4092)...)}) {
+		if l, e := Parse(whole, strict); e != api.OK || !same(l, []api.Node{leaf(4, samples.Bytes(4092)...)}) {
 			t.Errorf("4096 bytes: %d", e)
 		}
 		for _, b := range [][]byte{
 			make([]byte, 4097),
 			append(bytes.Clone(whole), 0),
-			append([]byte{4, 0x82, 0x0f, 0xfd}, sample(4093)...),
+			append([]byte{4, 0x82, 0x0f, 0xfd}, samples.Bytes(4093)...),
 			bytes.Repeat([]byte{0x1f}, 4097),
 			bytes.Repeat([]byte{0xff}, 100000),
 		} {
@@ -434,7 +435,7 @@ func TestSize(t *testing.T) {
 		{"30 02 00 00", 4}, {"30 02 ff", 4}, {"04 00 00 00 1f", 2}, {"04 01 07 1f 80 85", 3},
 		{"04 00" + strings.Repeat("00", 5000), 2},
 	} {
-		if n, e := Size(raw(t, x.in)); n != x.want || e != api.OK {
+		if n, e := Size(samples.Unhex(x.in)); n != x.want || e != api.OK {
 			t.Errorf("Size(%.40s) = %d, %d, want %d", x.in, n, e, x.want)
 		}
 	}
@@ -450,7 +451,7 @@ func TestSizeRefuses(t *testing.T) {
 		{api.ErrLength, []string{"30 80", "30 80 00 00", "04 80", "04 80 00", "5f 1f 80", "04 85", "04 ff", "30 85 00 00 00 00 01", "7f 4e 88"}},
 	} {
 		for _, in := range x.in {
-			if n, e := Size(raw(t, in)); n != 0 || e != x.want {
+			if n, e := Size(samples.Unhex(in)); n != 0 || e != x.want {
 				t.Errorf("Size(%s) = %d, %d, want %d", in, n, e, x.want)
 			}
 		}

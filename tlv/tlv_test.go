@@ -2,35 +2,16 @@ package tlv
 
 import (
 	"bytes"
-	"encoding/hex"
 	"math"
 	"math/rand"
 	"strings"
 	"testing"
 
 	"traveldoc/api"
+	"traveldoc/samples"
 )
 
 // Help for the tests of this package.
-
-// raw returns the bytes of hexadecimal text, in which blanks have no meaning.
-func raw(t *testing.T, s string) []byte {
-	t.Helper()
-	b, err := hex.DecodeString(strings.ReplaceAll(s, " ", ""))
-	if err != nil {
-		t.Fatal(err)
-	}
-	return b
-}
-
-// sample returns n bytes that differ from their neighbours and from zero at most places.
-func sample(n int) []byte {
-	b := make([]byte, n)
-	for i := range b {
-		b[i] = byte(i*37 + 11)
-	}
-	return b
-}
 
 func leaf(tag int, value ...byte) api.Node { return api.Node{Tag: tag, Value: value} }
 
@@ -118,7 +99,7 @@ func forest(r *rand.Rand, depth int) []api.Node {
 		}
 		if !Constructed(l[i].Tag) {
 			sizes := []int{0, 1, 2, 3, 20, 126, 127, 128, 129, 255, 256, 257}
-			l[i].Value = sample(sizes[r.Intn(len(sizes))])
+			l[i].Value = samples.Bytes(sizes[r.Intn(len(sizes))])
 		}
 	}
 	return l
@@ -347,13 +328,13 @@ func TestCanonical(t *testing.T) {
 		{"30 80 30 80 00 00 31 80 04 81 00 00 00 00 00 04 00", "30 06 30 00 31 02 04 00 04 00"},
 		{"7f 4e 80 5f 1f 81 01 09 00 00", "7f 4e 04 5f 1f 01 09"},
 	} {
-		if b, e := Canonical(raw(t, x.in)); e != api.OK || !bytes.Equal(b, raw(t, x.want)) {
+		if b, e := Canonical(samples.Unhex(x.in)); e != api.OK || !bytes.Equal(b, samples.Unhex(x.want)) {
 			t.Errorf("Canonical(%s) = %x, %d, want %s", x.in, b, e, x.want)
 		}
 	}
 	// The content of 200 bytes loses its own length in the long form and gets another one.
-	in := append(raw(t, "30 82 00 cc 04 82 00 c8"), sample(200)...)
-	want := append(raw(t, "30 81 cb 04 81 c8"), sample(200)...)
+	in := append(samples.Unhex("30 82 00 cc 04 82 00 c8"), samples.Bytes(200)...)
+	want := append(samples.Unhex("30 81 cb 04 81 c8"), samples.Bytes(200)...)
 	if b, e := Canonical(in); e != api.OK || !bytes.Equal(b, want) {
 		t.Errorf("Canonical = %x, %d", b, e)
 	}
@@ -369,7 +350,7 @@ func TestCanonicalReturnsTheErrorsOfParse(t *testing.T) {
 		{strings.Repeat("30 80 ", 9), api.ErrDepth}, {strings.Repeat("04 00 ", 257), api.ErrSize},
 		{strings.Repeat("00 ", 4097), api.ErrSize},
 	} {
-		if b, e := Canonical(raw(t, x.in)); e != x.want || b != nil {
+		if b, e := Canonical(samples.Unhex(x.in)); e != x.want || b != nil {
 			t.Errorf("Canonical(%s) = %x, %d, want %d", x.in, b, e, x.want)
 		}
 	}
@@ -464,7 +445,7 @@ func TestArgumentsAreNotModified(t *testing.T) {
 	for range 200 {
 		l := forest(r, 1)
 		// The memory behind an argument belongs to somebody else, though its capacity covers it.
-		whole := append(loose(r, l), sample(9)...)
+		whole := append(loose(r, l), samples.Bytes(9)...)
 		before := bytes.Clone(whole)
 		b := whole[:len(whole)-9]
 		kept := copied(l)
@@ -516,7 +497,7 @@ func TestParsedObjectsShareNoMemory(t *testing.T) {
 		"04 02 01 02 04 02 03 04 30 08 04 02 05 06 04 02 07 08",
 		"30 80 04 02 01 02 30 80 04 01 03 00 00 04 01 04 00 00 04 01 05",
 	} {
-		b := raw(t, s)
+		b := samples.Unhex(s)
 		want, _ := Parse(b, false)
 		want = copied(want)
 		got, _ := Parse(b, false)
@@ -534,7 +515,7 @@ func TestParsedObjectsShareNoMemory(t *testing.T) {
 			}
 		}
 		scribble(got)
-		if !bytes.Equal(b, raw(t, s)) {
+		if !bytes.Equal(b, samples.Unhex(s)) {
 			t.Errorf("%s: the objects share memory with the argument", s)
 		}
 		if again, _ := Parse(b, false); !same(again, want) {
