@@ -1,4 +1,4 @@
-// Package samples contains bytes that the tests of several packages use. The layers do not call it.
+// Package samples contains bytes and objects that the tests of several packages use. The layers do not call it.
 package samples
 
 import (

@@ -28,7 +28,7 @@ func (x read) test(t *testing.T) {
 			want = nil
 		}
 		l, got := Parse(b, strict)
-		if got != e || !same(l, want) {
+		if got != e || !samples.SameNodes(l, want) {
 			t.Errorf("Parse(%.60s, %v) = %v, %d, want %v, %d", x.in, strict, l, got, want, e)
 		}
 		if got != api.OK && l != nil {
@@ -102,11 +102,11 @@ func TestParseLengths(t *testing.T) {
 	} {
 		b := append(samples.Unhex("04"+x.form), samples.Bytes(x.size)...)
 		want := []api.Node{leaf(4, samples.Bytes(x.size)...)}
-		if l, e := Parse(b, false); e != api.OK || !same(l, want) {
+		if l, e := Parse(b, false); e != api.OK || !samples.SameNodes(l, want) {
 			t.Errorf("the length %s of %d bytes: %d", x.form, x.size, e)
 		}
 		l, e := Parse(b, true)
-		if x.strict && (e != api.OK || !same(l, want)) || !x.strict && (e != api.ErrLength || l != nil) {
+		if x.strict && (e != api.OK || !samples.SameNodes(l, want)) || !x.strict && (e != api.ErrLength || l != nil) {
 			t.Errorf("the length %s of %d bytes, read strictly: %d", x.form, x.size, e)
 		}
 	}
@@ -296,7 +296,7 @@ func TestParseDepth(t *testing.T) {
 			l, e := Parse(definite, true)
 			m, f := Parse(indefinite, false)
 			want := []api.Node{tower(depth, innermost)}
-			if depth <= api.MaxDepth && (e != api.OK || f != api.OK || !same(l, want) || !same(m, want)) {
+			if depth <= api.MaxDepth && (e != api.OK || f != api.OK || !samples.SameNodes(l, want) || !samples.SameNodes(m, want)) {
 				t.Errorf("%d levels: %d, %d", depth, e, f)
 			}
 			if depth > api.MaxDepth && (e != api.ErrDepth || f != api.ErrDepth || l != nil || m != nil) {
@@ -337,7 +337,7 @@ func TestParseCountsAllObjects(t *testing.T) {
 func TestParseCountsBytes(t *testing.T) {
 	whole := append([]byte{4, 0x82, 0x0f, 0xfc}, samples.Bytes(4092)...)
 	for _, strict := range []bool{true, false} {
-		if l, e := Parse(whole, strict); e != api.OK || !same(l, []api.Node{leaf(4, samples.Bytes(4092)...)}) {
+		if l, e := Parse(whole, strict); e != api.OK || !samples.SameNodes(l, []api.Node{leaf(4, samples.Bytes(4092)...)}) {
 			t.Errorf("4096 bytes: %d", e)
 		}
 		for _, b := range [][]byte{
@@ -466,7 +466,7 @@ func TestSizeOfTheFirstObject(t *testing.T) {
 			t.Fatalf("Size(%x) = %d", b, n)
 		}
 		if e == api.OK && n <= len(b) && f == api.OK {
-			if m, g := Parse(b[:n], false); g != api.OK || len(m) != 1 || !same(m, l[:1]) {
+			if m, g := Parse(b[:n], false); g != api.OK || len(m) != 1 || !samples.SameNodes(m, l[:1]) {
 				t.Fatalf("Size(%x) = %d, but there is %v, %d", b, n, m, g)
 			}
 		}

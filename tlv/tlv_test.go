@@ -35,43 +35,6 @@ func many(n int) []api.Node {
 	return l
 }
 
-// same compares objects, where nil and empty slices are equal.
-func same(a, b []api.Node) bool {
-	if len(a) != len(b) {
-		return false
-	}
-	for i := range a {
-		if a[i].Tag != b[i].Tag || !bytes.Equal(a[i].Value, b[i].Value) || !same(a[i].Kids, b[i].Kids) {
-			return false
-		}
-	}
-	return true
-}
-
-// copied returns a copy of objects that is made without the package.
-func copied(l []api.Node) []api.Node {
-	out := make([]api.Node, len(l))
-	for i, n := range l {
-		out[i] = api.Node{Tag: n.Tag, Value: bytes.Clone(n.Value), Kids: copied(n.Kids)}
-	}
-	return out
-}
-
-// scribble overwrites all that belongs to objects, up to the capacities of their slices.
-func scribble(l []api.Node) {
-	for i := range l {
-		scribble(l[i].Kids)
-		value := l[i].Value[:cap(l[i].Value)]
-		for j := range value {
-			value[j] ^= 0xff
-		}
-	}
-	l = l[:cap(l)]
-	for i := range l {
-		l[i] = api.Node{Tag: -9}
-	}
-}
-
 // tags returns all tags, made of the bytes that the definition names, in ascending order.
 func tags() []int {
 	var out []int
@@ -275,7 +238,7 @@ func TestFind(t *testing.T) {
 		{[]int{}, api.Node{}, false},
 	} {
 		got, ok := Find(l, x.path)
-		if ok != x.ok || !same([]api.Node{got}, []api.Node{x.want}) {
+		if ok != x.ok || !samples.SameNodes([]api.Node{got}, []api.Node{x.want}) {
 			t.Errorf("Find(%#x) = %v, %v, want %v", x.path, got, ok, x.want)
 		}
 	}
@@ -382,7 +345,7 @@ func TestParseOfEncode(t *testing.T) {
 		}
 		read++
 		for _, strict := range []bool{true, false} {
-			if got, f := Parse(b, strict); e != api.OK || f != api.OK || !same(got, l) {
+			if got, f := Parse(b, strict); e != api.OK || f != api.OK || !samples.SameNodes(got, l) {
 				t.Fatalf("Parse(Encode(%v), %v) = %v, %d, %d", l, strict, got, e, f)
 			}
 		}
@@ -403,7 +366,7 @@ func TestEncodeOfParse(t *testing.T) {
 		if c, f := Encode(l); f != api.OK || !bytes.Equal(c, b) {
 			t.Fatalf("Encode(Parse(%x)) = %x, %d", b, c, f)
 		}
-		if m, f := Parse(b, false); f != api.OK || !same(l, m) {
+		if m, f := Parse(b, false); f != api.OK || !samples.SameNodes(l, m) {
 			t.Fatalf("%x is %v if read strictly, and %v, %d otherwise", b, l, m, f)
 		}
 	})
@@ -432,7 +395,7 @@ func TestCanonicalOfCanonical(t *testing.T) {
 		b := loose(r, l)
 		check(b)
 		got, e := Parse(b, false)
-		if len(b) <= api.MaxBytes && (e != api.OK || !same(got, l)) {
+		if len(b) <= api.MaxBytes && (e != api.OK || !samples.SameNodes(got, l)) {
 			t.Fatalf("Parse(%x) = %v, %d, want %v", b, got, e, l)
 		}
 	}
@@ -448,7 +411,7 @@ func TestArgumentsAreNotModified(t *testing.T) {
 		whole := append(loose(r, l), samples.Bytes(9)...)
 		before := bytes.Clone(whole)
 		b := whole[:len(whole)-9]
-		kept := copied(l)
+		kept := samples.CopyNodes(l)
 		path := []int{0x30, 4}
 		if len(l) > 0 {
 			path[0] = l[0].Tag
@@ -461,7 +424,7 @@ func TestArgumentsAreNotModified(t *testing.T) {
 		Canonical(b)
 		Find(l, path)
 		Find(l, path[:1])
-		if !same(l, kept) || !bytes.Equal(whole, before) || path[0] != first || path[1] != 4 {
+		if !samples.SameNodes(l, kept) || !bytes.Equal(whole, before) || path[0] != first || path[1] != 4 {
 			t.Fatalf("an argument was modified: %v", kept)
 		}
 	}
@@ -469,14 +432,14 @@ func TestArgumentsAreNotModified(t *testing.T) {
 
 func TestEncodedBytesShareNoMemory(t *testing.T) {
 	l := []api.Node{leaf(4, 1, 2, 3), branch(0x30, leaf(5, 4, 5))}
-	kept := copied(l)
+	kept := samples.CopyNodes(l)
 	b, _ := Encode(l)
 	want := bytes.Clone(b)
 	b = b[:cap(b)]
 	for i := range b {
 		b[i] ^= 0xff
 	}
-	if !same(l, kept) {
+	if !samples.SameNodes(l, kept) {
 		t.Error("the result of Encode shares memory with its argument")
 	}
 	in := bytes.Clone(want)
@@ -499,26 +462,26 @@ func TestParsedObjectsShareNoMemory(t *testing.T) {
 	} {
 		b := samples.Unhex(s)
 		want, _ := Parse(b, false)
-		want = copied(want)
+		want = samples.CopyNodes(want)
 		got, _ := Parse(b, false)
 		last := len(got) - 1
 		for i := range last {
-			scribble(got[i : i+1 : i+1])
-			if !same(got[i+1:], want[i+1:]) {
+			samples.ScribbleNodes(got[i : i+1 : i+1])
+			if !samples.SameNodes(got[i+1:], want[i+1:]) {
 				t.Errorf("%s: the object %d shares memory with another one", s, i)
 			}
 		}
 		if kids := got[last].Kids; len(kids) > 1 {
-			scribble(kids[:1:1])
-			if !same(kids[1:], want[last].Kids[1:]) {
+			samples.ScribbleNodes(kids[:1:1])
+			if !samples.SameNodes(kids[1:], want[last].Kids[1:]) {
 				t.Errorf("%s: Kids share memory", s)
 			}
 		}
-		scribble(got)
+		samples.ScribbleNodes(got)
 		if !bytes.Equal(b, samples.Unhex(s)) {
 			t.Errorf("%s: the objects share memory with the argument", s)
 		}
-		if again, _ := Parse(b, false); !same(again, want) {
+		if again, _ := Parse(b, false); !samples.SameNodes(again, want) {
 			t.Errorf("%s: a second call returns %v", s, again)
 		}
 	}
@@ -528,20 +491,20 @@ func TestFoundObjectsShareNoMemory(t *testing.T) {
 	shared := []byte{1, 2, 3}
 	kids := []api.Node{{Tag: 4, Value: shared}, {Tag: 4, Value: shared}}
 	l := []api.Node{branch(0x31, api.Node{Tag: 0x30, Kids: kids}, api.Node{Tag: 0x30, Kids: kids})}
-	kept := copied(l)
+	kept := samples.CopyNodes(l)
 	for _, path := range [][]int{{0x31}, {0x31, 0x30}, {0x31, 0x30, 4}} {
 		n, ok := Find(l, path)
 		if !ok {
 			t.Fatal(path)
 		}
-		scribble([]api.Node{n})
-		if !same(l, kept) {
+		samples.ScribbleNodes([]api.Node{n})
+		if !samples.SameNodes(l, kept) {
 			t.Fatalf("the object at %#x shares memory with the argument", path)
 		}
 	}
 	n, _ := Find(l, []int{0x31})
-	scribble(n.Kids[0].Kids[:1:1])
-	if !same(n.Kids[0].Kids[1:], kept[0].Kids[0].Kids[1:]) || !same(n.Kids[1:], kept[0].Kids[1:]) {
+	samples.ScribbleNodes(n.Kids[0].Kids[:1:1])
+	if !samples.SameNodes(n.Kids[0].Kids[1:], kept[0].Kids[0].Kids[1:]) || !samples.SameNodes(n.Kids[1:], kept[0].Kids[1:]) {
 		t.Error("parts of an object that was found share memory")
 	}
 }

@@ -1,0 +1,60 @@
+package samples
+
+import (
+	"bytes"
+	"testing"
+
+	"traveldoc/api"
+)
+
+func trees() []api.Node {
+	return []api.Node{
+		{Tag: 4, Value: []byte{1, 2}},
+		{Tag: 0x30, Kids: []api.Node{{Tag: 2}, {Tag: 0x31, Kids: []api.Node{{Tag: 5, Value: []byte{9}}}}}},
+	}
+}
+
+func TestSameNodes(t *testing.T) {
+	if !SameNodes(trees(), trees()) || !SameNodes(nil, []api.Node{}) {
+		t.Error("the same objects differ")
+	}
+	if !SameNodes([]api.Node{{Tag: 4, Value: []byte{}, Kids: []api.Node{}}}, []api.Node{{Tag: 4}}) {
+		t.Error("an empty slice is another one than nil")
+	}
+	for _, change := range []func(l []api.Node){
+		func(l []api.Node) { l[0].Tag = 5 },
+		func(l []api.Node) { l[0].Value = []byte{1} },
+		func(l []api.Node) { l[1].Kids[1].Kids[0].Value[0]++ },
+		func(l []api.Node) { l[1].Kids[1].Kids = nil },
+		func(l []api.Node) { l[1].Kids[0], l[1].Kids[1] = l[1].Kids[1], l[1].Kids[0] },
+	} {
+		l := trees()
+		if change(l); SameNodes(l, trees()) || SameNodes(trees(), l) {
+			t.Error("other objects are the same", l)
+		}
+	}
+	if SameNodes(trees(), trees()[:1]) {
+		t.Error("fewer objects are the same")
+	}
+}
+
+func TestCopyNodes(t *testing.T) {
+	l := trees()
+	c := CopyNodes(l)
+	if !SameNodes(l, c) {
+		t.Fatal(c)
+	}
+	if ScribbleNodes(c); !SameNodes(l, trees()) {
+		t.Error("a copy shares memory")
+	}
+}
+
+func TestScribbleNodesReachesTheCapacity(t *testing.T) {
+	room := []byte{0, 1}
+	l := []api.Node{{Tag: 0x30, Kids: []api.Node{{Tag: 2, Value: room[:1]}}}, {Tag: 4}}
+	kids := l[0].Kids
+	ScribbleNodes(l[:1])
+	if !bytes.Equal(room, []byte{255, 254}) || kids[0].Tag != -9 || l[0].Tag != -9 || l[1].Tag != -9 {
+		t.Error(room, kids, l)
+	}
+}
