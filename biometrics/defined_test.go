@@ -2,7 +2,6 @@ package biometrics
 
 import (
 	"bytes"
-	"encoding/hex"
 	"math/rand"
 	"regexp"
 	"slices"
@@ -55,15 +54,6 @@ func definedError(l []api.Template) api.Errno {
 	return api.OK
 }
 
-// textOf writes objects as text: for each one its tag, its Value and its Kids.
-func textOf(l []api.Node) string {
-	var out strings.Builder
-	for _, n := range l {
-		out.WriteString(strconv.FormatInt(int64(n.Tag), 16) + "[" + hex.EncodeToString(n.Value) + "](" + textOf(n.Kids) + ")")
-	}
-	return out.String()
-}
-
 const definedTemplate = `7f60\[\]\(` +
 	`a1\[\]\(81\[(..)\]\(\)82\[(..)\]\(\)83\[(.{8})\]\(\)84\[(.{8})\]\(\)85\[(..)\]\(\)88\[(....)\]\(\)\)` +
 	`5f2e\[([0-9a-f]*)\]\(\)\)`
@@ -83,7 +73,7 @@ func hexNumber(text string) int {
 
 // definedDecode is P13.3.
 func definedDecode(l []api.Node) ([]api.Template, api.Errno) {
-	parts := listForm.FindStringSubmatch(textOf(l))
+	parts := listForm.FindStringSubmatch(samples.TextOfNodes(l))
 	if parts == nil {
 		return nil, api.ErrForm
 	}

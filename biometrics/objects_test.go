@@ -194,7 +194,7 @@ func TestDecode(t *testing.T) {
 // Slices that are empty instead of nil say the same (R3).
 func TestDecodeOfEmptySlices(t *testing.T) {
 	nodes := encoded(face())
-	see(nodes, func(n *api.Node) {
+	samples.SeeNodes(nodes, func(n *api.Node) {
 		if n.Value == nil {
 			n.Value = []byte{}
 		}
@@ -207,45 +207,18 @@ func TestDecodeOfEmptySlices(t *testing.T) {
 	}
 }
 
-// see calls what with each object, and all below.
-func see(l []api.Node, what func(n *api.Node)) {
-	for i := range l {
-		see(l[i].Kids, what)
-		what(&l[i])
-	}
-}
-
 // refuse tests that objects are not decoded.
 func refuse(t *testing.T, name string, l []api.Node, want api.Errno) {
 	t.Helper()
 	if got, e := Decode(l); e != want || len(got) != 0 {
-		t.Errorf("%s: %d, %+v: %s", name, e, got, textOf(l))
-	}
-}
-
-// each calls what with each object of a copy of l: change makes a change to the n-th one.
-func each(l []api.Node, what func(tag int, change func(func(n *api.Node)) []api.Node)) {
-	var tags []int
-	see(l, func(n *api.Node) { tags = append(tags, n.Tag) })
-	for place, tag := range tags {
-		what(tag, func(f func(n *api.Node)) []api.Node {
-			out := samples.CopyNodes(l)
-			at := 0
-			see(out, func(n *api.Node) {
-				if at == place {
-					f(n)
-				}
-				at++
-			})
-			return out
-		})
+		t.Errorf("%s: %d, %+v: %s", name, e, got, samples.TextOfNodes(l))
 	}
 }
 
 // forms are objects whose form is changed at each place: those of templates that are valid, and those of templates that are not, so that the form shows itself ahead of all that comes behind it.
 func forms() map[string][]api.Node {
 	twisted := encoded(finger(), face())
-	see(twisted, func(n *api.Node) {
+	samples.SeeNodes(twisted, func(n *api.Node) {
 		if n.Tag >= 0x81 && n.Tag <= 0x88 {
 			n.Value = bytes.Repeat([]byte{0xff}, len(n.Value))
 		}
@@ -278,7 +251,7 @@ func TestDecodeOfOtherTags(t *testing.T) {
 		0x2e, 0x5f, 0x60, 0x61, 0x7f, 0x5f2d, 0x5f2e, 0x5f2f, 0x7f2e, 0x7f5f, 0x7f60, 0x7f61, 0x7f62, 0x5f60, 0x5f61,
 	}
 	for name, l := range forms() {
-		each(l, func(tag int, change func(func(n *api.Node)) []api.Node) {
+		samples.EachNode(l, func(tag int, change func(func(n *api.Node)) []api.Node) {
 			for _, other := range append(others, tag+1, tag-1, tag+1<<8, tag+1<<16, tag+1<<32, -tag, ^tag) {
 				if other != tag {
 					refuse(t, name, change(func(n *api.Node) { n.Tag = other }), api.ErrForm)
@@ -292,7 +265,7 @@ func isPrimitive(tag int) bool { return tag == 2 || tag >= 0x81 && tag <= 0x88 |
 
 func TestDecodeOfValuesAndKidsWhereNoneMayBe(t *testing.T) {
 	for name, l := range forms() {
-		each(l, func(tag int, change func(func(n *api.Node)) []api.Node) {
+		samples.EachNode(l, func(tag int, change func(func(n *api.Node)) []api.Node) {
 			if !isPrimitive(tag) {
 				for _, value := range [][]byte{{0}, {1}, {1, 2}} {
 					refuse(t, name, change(func(n *api.Node) { n.Value = value }), api.ErrForm)
@@ -310,7 +283,7 @@ func TestDecodeOfValuesAndKidsWhereNoneMayBe(t *testing.T) {
 
 func TestDecodeOfOtherKids(t *testing.T) {
 	for name, l := range forms() {
-		each(l, func(tag int, change func(func(n *api.Node)) []api.Node) {
+		samples.EachNode(l, func(tag int, change func(func(n *api.Node)) []api.Node) {
 			if isPrimitive(tag) {
 				return
 			}
@@ -351,7 +324,7 @@ func TestDecodeOfTemplatesInAnotherOrder(t *testing.T) {
 // Each number has just as many bytes as is said, also where fewer or more of them are the same number.
 func TestDecodeOfOtherLengthsOfValues(t *testing.T) {
 	for name, l := range forms() {
-		each(l, func(tag int, change func(func(n *api.Node)) []api.Node) {
+		samples.EachNode(l, func(tag int, change func(func(n *api.Node)) []api.Node) {
 			if !isPrimitive(tag) || tag == 0x5f2e {
 				return
 			}
@@ -443,7 +416,7 @@ func TestDecodeOfTemplatesThatAreNotValid(t *testing.T) {
 		thumb := finger()
 		thumb.Part, thumb.From, thumb.To = 1, 0, 100
 		l := encoded(face(), thumb, face())
-		see(l[0].Kids[2:3], func(n *api.Node) {
+		samples.SeeNodes(l[0].Kids[2:3], func(n *api.Node) {
 			if n.Tag == x.tag {
 				n.Value = x.value
 			}
@@ -552,7 +525,7 @@ func TestDecodeOfRandomObjects(t *testing.T) {
 		want, wanted := definedDecode(l)
 		got, e := Decode(l)
 		if e != wanted || !sameTemplates(got, want) {
-			t.Fatalf("%s: %d, not %d", textOf(l), e, wanted)
+			t.Fatalf("%s: %d, not %d", samples.TextOfNodes(l), e, wanted)
 		}
 		seen[e]++
 		if e != api.OK {
@@ -560,7 +533,7 @@ func TestDecodeOfRandomObjects(t *testing.T) {
 		}
 		// Encode(Decode(l)) is l.
 		if again, e := Encode(got); e != api.OK || !samples.SameNodes(again, l) {
-			t.Fatalf("%s came back as %s: %d", textOf(l), textOf(again), e)
+			t.Fatalf("%s came back as %s: %d", samples.TextOfNodes(l), samples.TextOfNodes(again), e)
 		}
 	}
 	for _, e := range []api.Errno{api.OK, api.ErrForm, api.ErrInvalid, api.ErrDate, api.ErrRange, api.ErrSize} {
@@ -618,7 +591,7 @@ func TestEncodeSharesNothing(t *testing.T) {
 	// What belongs to one object is overwritten, with its room, and the others stay.
 	alone := func(l []api.Node) [][]byte {
 		var values [][]byte
-		see(l, func(n *api.Node) { values = append(values, n.Value) })
+		samples.SeeNodes(l, func(n *api.Node) { values = append(values, n.Value) })
 		return values
 	}
 	wanted := alone(want)
@@ -644,7 +617,7 @@ func TestDecodeSharesNothing(t *testing.T) {
 	x.Data = samples.Bytes(40)
 	l := []api.Template{x, x, x}
 	nodes := encoded(l...)
-	see(nodes, func(n *api.Node) {
+	samples.SeeNodes(nodes, func(n *api.Node) {
 		n.Value = samples.Roomy(n.Value)
 		if n.Tag == 0x5f2e {
 			n.Value = data

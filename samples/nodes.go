@@ -2,6 +2,8 @@ package samples
 
 import (
 	"bytes"
+	"strconv"
+	"strings"
 
 	"traveldoc/api"
 )
@@ -37,5 +39,45 @@ func ScribbleNodes(l []api.Node) {
 	l = l[:cap(l)]
 	for i := range l {
 		l[i] = api.Node{Tag: -9}
+	}
+}
+
+// TextOfNodes writes objects as text: for each one its tag, its Value and its Kids.
+func TextOfNodes(l []api.Node) string {
+	var out strings.Builder
+	for _, n := range l {
+		out.WriteString(strconv.FormatInt(int64(n.Tag), 16) + "[")
+		for _, x := range n.Value {
+			out.WriteString(Digits(int(x), 1))
+		}
+		out.WriteString("](" + TextOfNodes(n.Kids) + ")")
+	}
+	return out.String()
+}
+
+// SeeNodes calls what with each object, and all below.
+func SeeNodes(l []api.Node, what func(n *api.Node)) {
+	for i := range l {
+		SeeNodes(l[i].Kids, what)
+		what(&l[i])
+	}
+}
+
+// EachNode calls what for each object, and all below, with its tag: change makes a change to this object, in a copy of all.
+func EachNode(l []api.Node, what func(tag int, change func(func(n *api.Node)) []api.Node)) {
+	var tags []int
+	SeeNodes(l, func(n *api.Node) { tags = append(tags, n.Tag) })
+	for place, tag := range tags {
+		what(tag, func(f func(n *api.Node)) []api.Node {
+			out := CopyNodes(l)
+			at := 0
+			SeeNodes(out, func(n *api.Node) {
+				if at == place {
+					f(n)
+				}
+				at++
+			})
+			return out
+		})
 	}
 }

@@ -2,6 +2,7 @@ package samples
 
 import (
 	"bytes"
+	"slices"
 	"testing"
 
 	"traveldoc/api"
@@ -56,5 +57,48 @@ func TestScribbleNodesReachesTheCapacity(t *testing.T) {
 	ScribbleNodes(l[:1])
 	if !bytes.Equal(room, []byte{255, 254}) || kids[0].Tag != -9 || l[0].Tag != -9 || l[1].Tag != -9 {
 		t.Error(room, kids, l)
+	}
+}
+
+func TestTextOfNodes(t *testing.T) {
+	if got := TextOfNodes(trees()); got != "4[0102]()30[](2[]()31[](5[09]()))" {
+		t.Error(got)
+	}
+	if got := TextOfNodes([]api.Node{{Tag: -10, Value: []byte{0xff}, Kids: []api.Node{{}}}}); got != "-a[ff](0[]())" {
+		t.Error(got)
+	}
+}
+
+func TestSeeNodes(t *testing.T) {
+	l := trees()
+	var tags []int
+	SeeNodes(l, func(n *api.Node) {
+		tags = append(tags, n.Tag)
+		n.Tag++
+	})
+	if !slices.Equal(tags, []int{4, 2, 5, 0x31, 0x30}) || TextOfNodes(l) != "5[0102]()31[](3[]()32[](6[09]()))" {
+		t.Error(tags, TextOfNodes(l))
+	}
+}
+
+func TestEachNode(t *testing.T) {
+	l := trees()
+	var texts []string
+	EachNode(l, func(tag int, change func(func(n *api.Node)) []api.Node) {
+		texts = append(texts, TextOfNodes(change(func(n *api.Node) {
+			if n.Tag != tag {
+				t.Error("another object", tag, n.Tag)
+			}
+			n.Tag = 0
+		})))
+	})
+	if !slices.Equal(texts, []string{
+		"0[0102]()30[](2[]()31[](5[09]()))", "4[0102]()30[](0[]()31[](5[09]()))", "4[0102]()30[](2[]()31[](0[09]()))",
+		"4[0102]()30[](2[]()0[](5[09]()))", "4[0102]()0[](2[]()31[](5[09]()))",
+	}) {
+		t.Error(texts)
+	}
+	if !SameNodes(l, trees()) {
+		t.Error("the objects are others now")
 	}
 }

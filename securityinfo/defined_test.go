@@ -82,39 +82,20 @@ func definedError(l []api.Info) api.Errno {
 	return api.OK
 }
 
-// digits writes a number as text of so many bytes.
-func digits(n, size int) string {
-	text := strconv.FormatInt(int64(n), 16)
-	return strings.Repeat("0", 2*size-len(text)) + text
-}
-
-// object writes a tag of one byte, a length in shortest form and a content, which is text already.
-func object(tag int, content ...string) string {
-	all := strings.ReplaceAll(strings.Join(content, ""), " ", "")
-	size := len(all) / 2
-	switch {
-	case size < 1<<7:
-		return digits(tag, 1) + digits(size, 1) + all
-	case size < 1<<8:
-		return digits(tag, 1) + "81" + digits(size, 1) + all
-	}
-	return digits(tag, 1) + "82" + digits(size, 2) + all
-}
-
 // textOf writes an info, whose numbers need no more bytes than they have.
 func textOf(x api.Info) string {
 	for _, p := range definedProtocols {
 		if p.protocol != x.Protocol {
 			continue
 		}
-		content := []string{object(6, "04007f00070202", p.end), object(2, digits(x.Version, 1))}
+		content := []string{samples.Object(6, "04007f00070202", p.end), samples.Object(2, samples.Digits(x.Version, 1))}
 		if p.params {
-			content = append(content, object(2, digits(x.Params, 1)))
+			content = append(content, samples.Object(2, samples.Digits(x.Params, 1)))
 		}
 		if p.key {
-			content = append(content, object(4, digits(x.Key, 4)), object(2, digits(x.KeyID, 1)))
+			content = append(content, samples.Object(4, samples.Digits(x.Key, 4)), samples.Object(2, samples.Digits(x.KeyID, 1)))
 		}
-		return object(0x30, content...)
+		return samples.Object(0x30, content...)
 	}
 	panic("no protocol")
 }
@@ -125,7 +106,7 @@ func bytesOf(l ...api.Info) []byte {
 	for _, x := range l {
 		content = append(content, textOf(x))
 	}
-	return samples.Unhex(object(0x31, content...))
+	return samples.Unhex(samples.Object(0x31, content...))
 }
 
 const definedInfo = `30(?:` +
@@ -155,7 +136,7 @@ func hexNumber(places ...string) int {
 func definedForm(b []byte) ([]api.Info, bool) {
 	text := hex.EncodeToString(b)
 	for _, head := range []int{4, 6, 8} {
-		if len(text) < head || text != object(0x31, text[head:]) || !listForm.MatchString(text[head:]) {
+		if len(text) < head || text != samples.Object(0x31, text[head:]) || !listForm.MatchString(text[head:]) {
 			continue
 		}
 		var l []api.Info

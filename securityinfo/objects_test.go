@@ -171,10 +171,10 @@ func TestDecodeOfNoStrictEncodings(t *testing.T) {
 		infos = append(infos, textOf(chip(1, 0)))
 	}
 	// With five objects each and the one around them, 51 infos are 256 objects.
-	refuse(t, "too many objects", samples.Unhex(object(0x31, infos...)), api.ErrSize)
-	refuse(t, "as many infos as objects may be", samples.Unhex(object(0x31, infos[:51]...)), api.ErrSize)
-	infos[50] = object(0x30, "0500", "0500", "0500", "0500")
-	refuse(t, "as many objects as may be, without form", samples.Unhex(object(0x31, infos[:51]...)), api.ErrForm)
+	refuse(t, "too many objects", samples.Unhex(samples.Object(0x31, infos...)), api.ErrSize)
+	refuse(t, "as many infos as objects may be", samples.Unhex(samples.Object(0x31, infos[:51]...)), api.ErrSize)
+	infos[50] = samples.Object(0x30, "0500", "0500", "0500", "0500")
+	refuse(t, "as many objects as may be, without form", samples.Unhex(samples.Object(0x31, infos[:51]...)), api.ErrForm)
 }
 
 func TestDecodeOfNoObjectOrTwo(t *testing.T) {
@@ -193,8 +193,8 @@ func TestDecodeOfNoObjectOrTwo(t *testing.T) {
 			refuse(t, more+" ahead", append(samples.Unhex(more), b...), api.ErrForm)
 		}
 		refuse(t, "twice", append(bytes.Clone(b), b...), api.ErrForm)
-		refuse(t, "within another list", samples.Unhex(object(0x31, object(0x31, textsOf(l)...))), api.ErrForm)
-		refuse(t, "within another info", samples.Unhex(object(0x30, object(0x31, textsOf(l)...))), api.ErrForm)
+		refuse(t, "within another list", samples.Unhex(samples.Object(0x31, samples.Object(0x31, textsOf(l)...))), api.ErrForm)
+		refuse(t, "within another info", samples.Unhex(samples.Object(0x30, samples.Object(0x31, textsOf(l)...))), api.ErrForm)
 		refuse(t, "the infos only", samples.Unhex(strings.Join(textsOf(l), "")), api.ErrForm)
 	}
 }
@@ -324,8 +324,8 @@ func TestDecodeOfOtherKids(t *testing.T) {
 	}
 	// Objects that are no infos, among those that are.
 	for i := range len(one()) + 1 {
-		for _, text := range []string{"0500", "3000", "3100", "020101", "30020500", "3003020101", object(0x31, textOf(active())), object(0x30, textOf(active()))} {
-			refuse(t, text, samples.Unhex(object(0x31, slices.Insert(textsOf(one()), i, text)...)), api.ErrForm)
+		for _, text := range []string{"0500", "3000", "3100", "020101", "30020500", "3003020101", samples.Object(0x31, textOf(active())), samples.Object(0x30, textOf(active()))} {
+			refuse(t, text, samples.Unhex(samples.Object(0x31, slices.Insert(textsOf(one()), i, text)...)), api.ErrForm)
 		}
 	}
 }
@@ -387,7 +387,7 @@ func TestDecodeOfOtherIdentifiers(t *testing.T) {
 			if slices.Contains(x.ends, end) {
 				want, count = api.OK, 1
 			}
-			b := samples.Unhex(object(0x31, object(0x30, "0609 04007f00070202", digits(end, 2), x.numbers)))
+			b := samples.Unhex(samples.Object(0x31, samples.Object(0x30, "0609 04007f00070202", samples.Digits(end, 2), x.numbers)))
 			if l, e := Decode(b); e != want || len(l) != count {
 				t.Fatalf("%x: %+v, %d", b, l, e)
 			}
@@ -440,9 +440,9 @@ func TestDecodeOfInfosThatAreNotValid(t *testing.T) {
 			t.Errorf("%+v: %d", x.l, e)
 		}
 		// The form of a later one comes ahead.
-		refuse(t, "and without form", samples.Unhex(object(0x31, append(textsOf(x.l), "3000")...)), api.ErrForm)
+		refuse(t, "and without form", samples.Unhex(samples.Object(0x31, append(textsOf(x.l), "3000")...)), api.ErrForm)
 		// And a length that is not strict ahead of this.
-		refuse(t, "and not strict", samples.Unhex(object(0x31, append(textsOf(x.l), "3000", "308100")...)), api.ErrLength)
+		refuse(t, "and not strict", samples.Unhex(samples.Object(0x31, append(textsOf(x.l), "3000", "308100")...)), api.ErrLength)
 	}
 }
 

@@ -68,41 +68,6 @@ func forest(r *rand.Rand, depth int) []api.Node {
 	return l
 }
 
-// loose returns an encoding of objects with lengths in random forms.
-func loose(r *rand.Rand, l []api.Node) []byte {
-	var out []byte
-	for _, n := range l {
-		if n.Tag > 255 {
-			out = append(out, byte(n.Tag>>8))
-		}
-		out = append(out, byte(n.Tag))
-		content := n.Value
-		if Constructed(n.Tag) {
-			content = loose(r, n.Kids)
-		}
-		form := r.Intn(6)
-		switch {
-		case form == 5 && Constructed(n.Tag):
-			out = append(out, 0x80)
-			out = append(out, content...)
-			out = append(out, 0, 0)
-			continue
-		case form == 0 && len(content) < 128:
-			out = append(out, byte(len(content)))
-		case form == 1 && len(content) < 256:
-			out = append(out, 0x81, byte(len(content)))
-		case form == 3:
-			out = append(out, 0x83, 0, byte(len(content)>>8), byte(len(content)))
-		case form == 4:
-			out = append(out, 0x84, 0, 0, byte(len(content)>>8), byte(len(content)))
-		default:
-			out = append(out, 0x82, byte(len(content)>>8), byte(len(content)))
-		}
-		out = append(out, content...)
-	}
-	return out
-}
-
 // texts calls see with each text of up to longest bytes that has only the bytes in alphabet.
 func texts(alphabet []byte, longest int, see func(b []byte)) {
 	b := make([]byte, 0, longest)
@@ -392,7 +357,7 @@ func TestCanonicalOfCanonical(t *testing.T) {
 	r := rand.New(rand.NewSource(3))
 	for range 2000 {
 		l := forest(r, 1)
-		b := loose(r, l)
+		b := samples.Loose(r.Intn, l)
 		check(b)
 		got, e := Parse(b, false)
 		if len(b) <= api.MaxBytes && (e != api.OK || !samples.SameNodes(got, l)) {
@@ -408,7 +373,7 @@ func TestArgumentsAreNotModified(t *testing.T) {
 	for range 200 {
 		l := forest(r, 1)
 		// The memory behind an argument belongs to somebody else, though its capacity covers it.
-		whole := append(loose(r, l), samples.Bytes(9)...)
+		whole := append(samples.Loose(r.Intn, l), samples.Bytes(9)...)
 		before := bytes.Clone(whole)
 		b := whole[:len(whole)-9]
 		kept := samples.CopyNodes(l)
